@@ -1,0 +1,1 @@
+"""Letinside: a house that lets strangers' code in."""

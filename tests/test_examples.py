@@ -1,0 +1,56 @@
+"""The examples of the document, with just the values that it shows."""
+
+import doctest
+import unittest
+
+EXAMPLES = """
+>>> from letinside.gates import Gate
+>>> shop = Gate(2, ["buy", "ask"], ["gold"], [("buy", 0, "", 1, False, ("gold",)), ("ask", 1, "?", 1, False, ("+given", "gold"))])
+>>> [shop.kind_of("gold"), shop.kind_of("ann"), shop.kind_of(""), shop.rule_for("buy", 0, ""), shop.rule_for("buy", 1, "")]
+['gold', '?', '', ('buy', 0, '', 1, False, ('gold',)), None]
+>>> [shop.call(0, "", "buy", ""), shop.call(1, "", "ask", "ann"), shop.call(1, "", "ask", "gold"), shop.doors()]
+[(1, '', ['gold']), (1, '', ['ann', 'gold']), (1, '', []), ['ask', 'buy']]
+>>> post = Gate(1, ["put", "get"], [], [("put", 0, "?", 0, True, ("+kept",)), ("get", 0, "", 0, False, ("+kept",))])
+>>> [post.call(0, "", "put", "ann"), post.call(0, "ann", "put", "bob"), post.call(0, "bob", "get", "")]
+[(0, 'ann', []), (0, 'bob', ['ann']), (0, 'bob', ['bob'])]
+>>> from letinside.houses import House
+>>> house = House(["ann", "bob"], ["cup"], [shop.renamed({"gold": "cup"}), post], [("ann", "buy"), ("ann", "put"), ("bob", "get"), ("bob", "bob")])
+>>> [house.first(), house.doors(), house.gate_of("put"), house.objects()]
+[[('ann', 'buy'), ('ann', 'put'), ('bob', 'get')], ['ask', 'buy', 'get', 'put'], 1, ['ann', 'ask', 'bob', 'buy', 'cup', 'get', 'put']]
+>>> from letinside.doing import deeds_at, done, is_turn, led, told
+>>> from letinside.stands import first_stand, has, within
+>>> begin = first_stand(house)
+>>> begin
+(((0, ''), (0, '')), (('ann', ('ann', 'buy', 'put')), ('bob', ('bob', 'get'))))
+>>> bought = done(house, begin, ("call", "ann", "buy", ""))
+>>> bought
+(((1, ''), (0, '')), (('ann', ('ann', 'buy', 'cup', 'put')), ('bob', ('bob', 'get'))))
+>>> row = [("call", "ann", "buy", ""), ("call", "ann", "put", "cup"), ("call", "bob", "get", "")]
+>>> [has(led(house, begin, row)[3], (("bob", "cup"),)), told(house, bought, ("call", "ann", "put", "ann")), is_turn(house, bought, ("call", "ann", "put", "ann"))]
+[True, [], True]
+>>> [within(begin, bought), len(deeds_at(house, begin, ("bob",))), deeds_at(house, begin, ("bob",))[0]]
+[False, 3, ('call', 'bob', 'get', '')]
+>>> from letinside.growing import growth, grown, is_grown, lots
+>>> from letinside.nodes import next_nodes, nodes, turns_to
+>>> both = ("ann", "bob")
+>>> [is_grown(house, begin, both), lots(house, begin, both), len(next_nodes(house, begin, both))]
+[True, [['ann'], ['bob']], 4]
+>>> [[node[0] for node in next_nodes(house, begin, both)][1:], len(nodes(house, ("bob",)))]
+[[((0, ''), (0, 'buy')), ((0, ''), (0, 'put')), ((1, ''), (0, ''))], 1]
+>>> from letinside.reach import can, fewest, is_play_for, play_for
+>>> [can(house, ("ann",), (("bob", "cup"),)), can(house, both, (("bob", "cup"),)), fewest(house, both, (("bob", "cup"),)), is_play_for(house, both, (("bob", "cup"),), row)]
+[False, True, 2, True]
+"""
+
+
+class ExamplesTest(unittest.TestCase):
+    def test_examples(self):
+        told = []
+        test = doctest.DocTestParser().get_doctest(EXAMPLES, {}, "examples", "examples", 0)
+        result = doctest.DocTestRunner(verbose=False).run(test, out=told.append)
+        self.assertEqual("".join(told), "")
+        self.assertEqual((result.failed, result.attempted), (0, 25))
+
+
+if __name__ == "__main__":
+    unittest.main()
