@@ -51,7 +51,7 @@ class Board:
         return ((gates, tuple(masks)), play)
 
     def turns(self, place):
-        """Return the dict from the places just behind a turn from a grown place to such turns."""
+        """Return the dict from the places just behind a turn from a grown place to one such turn each."""
         masks = place[1]
         turning = self._moves_at(place[0])[1]
         behind = {}
@@ -72,10 +72,10 @@ class Board:
         return [name for name in self._names if mask & self._bits[name] != 0]
 
     def _leaders(self, masks):
-        """Return those who act without whom an earlier one holds.
+        """Return those who act, but for those whom an earlier one of them holds.
 
-        In a grown place whoever holds another one that acts hands it all and is handed all, so that the
-        turns of the two lead to places that grow alike.
+        In a grown place two such guests hold the same and hand each other all, so that the turns of the
+        one lead to what the turns of the other lead to, once it has grown.
         """
         leaders = []
         for at in self._acting:
@@ -100,7 +100,7 @@ class Board:
                 play.extend([("hand", self._guests[at], name, given) for given in self._names_in(new)])
 
     def _moves_at(self, gates):
-        """Return the lists of the moves at these gates: those that tell something and are no turns, and the turns."""
+        """Return two lists of moves at these gates: what tells something and is no turn, and the turns."""
         if gates not in self._moves:
             moves = [self._move(gates, number, door, given) for number, gate in enumerate(self._gates)
                      for door in gate.doors() for given in [""] + self._names]
