@@ -5,12 +5,15 @@ the bits of the names that it holds. A MOVE is a tuple (need, gain, later, door,
 that a holder of the bits of need can do, the bits of what is told, and the gates behind it.
 """
 
+from letinside.calling import called
+
 
 class Board:
     """A House with some guests who act."""
 
     def __init__(self, house, acting):
-        self._gates = house.gates()
+        self._house = house
+        self._doors = house.doors()
         self._guests = house.guests()
         self._names = house.objects()
         self._acting = [at for at, guest in enumerate(self._guests) if guest in acting]
@@ -63,6 +66,10 @@ class Board:
                     behind.setdefault((later, told), ("call", self._guests[at], door, given))
         return behind
 
+    def thrown(self, place, door):
+        """Return the place behind a throw of a door."""
+        return (called(self._house, place[0], door, "")[0], place[1])
+
     def _mask(self, names):
         """Return the sum of the bits of different names."""
         return sum([self._bits[name] for name in names])
@@ -102,18 +109,15 @@ class Board:
     def _moves_at(self, gates):
         """Return two lists of moves at these gates: what tells something and is no turn, and the turns."""
         if gates not in self._moves:
-            moves = [self._move(gates, number, door, given) for number, gate in enumerate(self._gates)
-                     for door in gate.doors() for given in [""] + self._names]
+            moves = [self._move(gates, door, given) for door in self._doors for given in [""] + self._names]
             still = [move for move in moves if move[2] == gates and move[1] & ~move[0] != 0]
             self._moves[gates] = (still, [move for move in moves if move[2] != gates])
         return self._moves[gates]
 
-    def _move(self, gates, number, door, given):
-        """Return the move of a door of the gate with this number."""
-        state, kept = gates[number]
-        later, kept_then, names = self._gates[number].call(state, kept, door, given)
+    def _move(self, gates, door, given):
+        """Return the move of a door when this is given."""
+        later, names = called(self._house, gates, door, given)
         gain = 0
         for name in names:
             gain = gain | self._bits[name]
-        behind = gates[:number] + ((later, kept_then),) + gates[number + 1:]
-        return (self._bits[door] | self._bits[given], gain, behind, door, given)
+        return (self._bits[door] | self._bits[given], gain, later, door, given)

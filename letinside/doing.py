@@ -1,5 +1,6 @@
 """Deeds: whether they can be done in a stand, and what comes of them."""
 
+from letinside.calling import called
 from letinside.errors import NoDeed, NoDoor, NoGuest, NotDone, NotHeld
 from letinside.kinds import is_deed
 from letinside.stands import names_held
@@ -11,8 +12,8 @@ def done(house, stand, deed):
     if deed[0] == "hand":
         return (stand[0], _holding(stand[1], deed[2], [deed[3]]))
     if deed[0] == "throw":
-        return (_called(house, stand, deed[1], "")[0], stand[1])
-    gates, names = _called(house, stand, deed[2], deed[3])
+        return (called(house, stand[0], deed[1], "")[0], stand[1])
+    gates, names = called(house, stand[0], deed[2], deed[3])
     return (gates, _holding(stand[1], deed[1], names))
 
 
@@ -22,8 +23,8 @@ def told(house, stand, deed):
     if deed[0] == "hand":
         return []
     if deed[0] == "throw":
-        return _called(house, stand, deed[1], "")[1]
-    return _called(house, stand, deed[2], deed[3])[1]
+        return called(house, stand[0], deed[1], "")[1]
+    return called(house, stand[0], deed[2], deed[3])[1]
 
 
 def can_do(house, stand, deed):
@@ -92,15 +93,6 @@ def _refuse_guest(house, name):
     """Raise NoGuest if this is no guest."""
     if name not in house.guests():
         raise NoGuest(name)
-
-
-def _called(house, stand, door, given):
-    """Return the gates behind a call of a door, and the list of the names told."""
-    gates = stand[0]
-    number = house.gate_of(door)
-    state, kept = gates[number]
-    later, kept_then, names = house.gates()[number].call(state, kept, door, given)
-    return (gates[:number] + ((later, kept_then),) + gates[number + 1:], names)
 
 
 def _holding(held, guest, names):

@@ -1,16 +1,16 @@
 """Reach: whether a wish can come, and by which play."""
 
 from letinside.boards import Board
-from letinside.doing import led
-from letinside.errors import NotDone
-from letinside.kinds import is_deed
-from letinside.stands import first_stand, has
-from letinside.walks import play_to, walk_from_first
+from letinside.covers import cover_from
+from letinside.plays import is_of_acting, stands_of
+from letinside.stands import has
+from letinside.walks import first_place, play_to, walk_from_first
 
 
 def can(house, acting, wish):
     """Tell whether a wish can come."""
-    return fewest(house, acting, wish) is not None
+    board = Board(house, acting)
+    return cover_from(board, [first_place(house, board)], board.wanted(wish)) is None
 
 
 def fewest(house, acting, wish):
@@ -29,15 +29,7 @@ def play_for(house, acting, wish):
 
 def is_play_for(house, acting, wish, thing):
     """Tell whether thing, any value, is a play from the first stand that brings a wish."""
-    if not isinstance(thing, list) or not all([_is_of_acting(part, acting) for part in thing]):
+    if not isinstance(thing, list) or not all([is_of_acting(part, acting) for part in thing]):
         return False
-    try:
-        stands = led(house, first_stand(house), thing)
-    except NotDone:
-        return False
-    return has(stands[-1], wish)
-
-
-def _is_of_acting(thing, acting):
-    """Tell whether thing, any value, has the form of a call or a hand by a guest who acts."""
-    return is_deed(thing) and thing[0] != "throw" and thing[1] in acting
+    stands = stands_of(house, thing)
+    return stands is not None and has(stands[-1], wish)

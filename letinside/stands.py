@@ -16,7 +16,7 @@ def is_stand(house, thing):
     """Tell whether thing, any value, is a stand of a House by its form."""
     if not _is_tuple_of(thing, 2):
         return False
-    return _are_gates(house, thing[0]) and _is_held(house, thing[1])
+    return are_gates(house, thing[0]) and _is_held(house, thing[1])
 
 
 def names_held(stand, guest):
@@ -38,12 +38,7 @@ def within(one, other):
     return all([name in more[guest] for guest, names in one[1] for name in names])
 
 
-def _is_tuple_of(thing, many):
-    """Tell whether thing is a tuple of so many parts."""
-    return isinstance(thing, tuple) and len(thing) == many
-
-
-def _are_gates(house, thing):
+def are_gates(house, thing):
     """Tell whether thing has the form of the gates of a stand."""
     gates = house.gates()
     if not _is_tuple_of(thing, len(gates)) or not all([_is_tuple_of(part, 2) for part in thing]):
@@ -52,6 +47,11 @@ def _are_gates(house, thing):
         return False
     known = house.objects() + [""]
     return all([part[1] in known for part in thing])
+
+
+def _is_tuple_of(thing, many):
+    """Tell whether thing is a tuple of so many parts."""
+    return isinstance(thing, tuple) and len(thing) == many
 
 
 def _is_held(house, thing):

@@ -113,6 +113,23 @@ def random_house(seed, most_guests=4, most_things=3, most_doors=6):
     return House(guests, things, gates, first)
 
 
+def choice_house(seed):
+    """A House whose gates tell one of a few names where they go on to a greater state, and never come back."""
+    chance = random.Random(seed)
+    guests = GUESTS[:chance.randint(1, 3)]
+    doors = DOORS[:chance.randint(1, 4)]
+    objects = guests + THINGS + doors
+    gates = []
+    for number in range(min(2, len(doors))):
+        closet = chance.sample(objects, 4)
+        rules = [(door, state, kind, chance.randint(state + 1, 2), False, (chance.choice(closet),))
+                 for door in doors[number::2] for state in range(2) for kind in ["", "?"] + closet
+                 if chance.random() < 0.5]
+        gates.append(Gate(3, doors[number::2], closet, rules))
+    first = [(chance.choice(guests), chance.choice(doors)) for _ in range(4)]
+    return House(guests, THINGS, gates, first + [(guests[0], doors[0])])
+
+
 def shuffled(house, seed):
     """A House equal to this one, its parts given in another order."""
     chance = random.Random(seed)
@@ -159,6 +176,23 @@ def plain_call(house, stand, number, guest, door, given):
     return stand
 
 
+def plain_throw(house, stand, door):
+    """The stand behind a throw."""
+    for number, gate in enumerate(house.gates()):
+        if door in gate.doors():
+            return (plain_call(house, stand, number, "", door, "")[0], stand[1])
+
+
+def plain_within(one, other):
+    """Whether one stand is within another one."""
+    return one[0] == other[0] and all(set(names) <= set(dict(other[1])[guest]) for guest, names in one[1])
+
+
+def plain_has(stand, wish):
+    """Whether a stand has a wish."""
+    return all(name in dict(stand[1])[guest] for guest, name in wish)
+
+
 def plain_held(held, guest, names):
     """What is held when one holds further names."""
     return tuple([(holder, tuple(sorted(held[holder] | (set(names) if holder == guest else set()))))
@@ -192,9 +226,9 @@ def plain_next(house, node, acting):
     return {plain_grown(house, stand, acting) for stand in behind if stand[0] != node[0]}
 
 
-def plain_nodes(house, acting):
-    """The dict from all nodes to the fewest steps to them."""
-    level = [plain_grown(house, plain_first(house), acting)]
+def plain_nodes(house, acting, begin=None):
+    """The dict from all nodes to the fewest steps to them, or from all that come of another stand."""
+    level = [plain_grown(house, begin or plain_first(house), acting)]
     steps = {level[0]: 0}
     while level:
         further = []
@@ -207,10 +241,10 @@ def plain_nodes(house, acting):
     return steps
 
 
-def plain_stands(house, acting, most):
+def plain_stands(house, acting, most, begin=None):
     """The dict from all stands that any plays lead to, to the fewest turns; None if there are too many."""
     turns = {}
-    level = [plain_first(house)]
+    level = [begin or plain_first(house)]
     many = 0
     while level:
         rest = level

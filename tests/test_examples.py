@@ -37,9 +37,23 @@ EXAMPLES = """
 [True, [['ann'], ['bob']], 4]
 >>> [[node[0] for node in next_nodes(house, begin, both)][1:], len(nodes(house, ("bob",)))]
 [[((0, ''), (0, 'buy')), ((0, ''), (0, 'put')), ((1, ''), (0, ''))], 1]
+>>> from letinside.ends import apart, ever, most_held
+>>> from letinside.fences import fence, is_fence
 >>> from letinside.reach import can, fewest, is_play_for, play_for
 >>> [can(house, ("ann",), (("bob", "cup"),)), can(house, both, (("bob", "cup"),)), fewest(house, both, (("bob", "cup"),)), is_play_for(house, both, (("bob", "cup"),), row)]
 [False, True, 2, True]
+>>> is_fence(house, ("ann",), (("bob", "cup"),), fence(house, ("ann",), (("bob", "cup"),)))
+True
+>>> once = Gate(2, ["pick"], ["cup", "key"], [("pick", 0, "", 1, False, ("cup",)), ("pick", 0, "?", 1, False, ("key",))])
+>>> chest = House(["ann"], ["cup", "key"], [once], [("ann", "pick")])
+>>> [ever(chest, ("ann",)), apart(chest, ("ann",)), [len(held[0][1]) for held in most_held(chest, ("ann",))]]
+[{'ann': ['ann', 'cup', 'key', 'pick']}, [(('ann', 'cup'), ('ann', 'key'))], [3, 3]]
+>>> from letinside.least import actor_lots, barring, bringing
+>>> from letinside.needed import followed, idle, needed
+>>> [actor_lots(house, (("bob", "cup"),)), bringing(house, both, (("bob", "cup"),)), barring(house, both, (("bob", "cup"),))]
+[[['ann', 'bob']], [[('ann', 'buy'), ('ann', 'put'), ('bob', 'get')]], [[('ann', 'buy')], [('ann', 'put')], [('bob', 'get')]]]
+>>> [needed(house, both, (("bob", "cup"),)), idle(house, both)]
+[[('buy', 0, ''), ('get', 0, ''), ('put', 0, '?')], [('ask', 1, '?')]]
 """
 
 
@@ -49,7 +63,7 @@ class ExamplesTest(unittest.TestCase):
         test = doctest.DocTestParser().get_doctest(EXAMPLES, {}, "examples", "examples", 0)
         result = doctest.DocTestRunner(verbose=False).run(test, out=told.append)
         self.assertEqual("".join(told), "")
-        self.assertEqual((result.failed, result.attempted), (0, 25))
+        self.assertEqual((result.failed, result.attempted), (0, 35))
 
 
 if __name__ == "__main__":

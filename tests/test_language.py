@@ -26,6 +26,10 @@ INTERFACE = {
     "growing.py": "grown is_grown growth lots",
     "nodes.py": "next_nodes nodes turns_to way_to",
     "reach.py": "can fewest play_for is_play_for",
+    "fences.py": "fence is_fence",
+    "ends.py": "ever most_held apart",
+    "least.py": "actor_lots bringing barring",
+    "needed.py": "followed idle pruned needed",
 }
 CLASSES = {
     "Gate": "__init__ __eq__ states doors closet rules kind_of rule_for call without_rule with_rule renamed",
