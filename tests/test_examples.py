@@ -54,6 +54,21 @@ True
 [[['ann', 'bob']], [[('ann', 'buy'), ('ann', 'put'), ('bob', 'get')]], [[('ann', 'buy')], [('ann', 'put')], [('bob', 'get')]]]
 >>> [needed(house, both, (("bob", "cup"),)), idle(house, both)]
 [[('buy', 0, ''), ('get', 0, ''), ('put', 0, '?')], [('ask', 1, '?')]]
+>>> from letinside.latefences import is_late_fence, late_fence
+>>> from letinside.throws import bars, is_late_play, late_play, latest
+>>> [latest(house, both, "buy", (("bob", "cup"),)), latest(house, both, "get", (("bob", "cup"),)), bars(house, both, "buy", 0, (("bob", "cup"),)), bars(house, both, "buy", 1, (("bob", "cup"),))]
+[('upto', 0), ('no',), True, False]
+>>> is_late_play(house, both, "buy", 1, (("bob", "cup"),), [row[0], ("throw", "buy"), row[1], row[2]])
+True
+>>> from letinside.pairs import are_pairs, pairs
+>>> from letinside.views import parting, see_same, shown
+>>> view = (chest, "ann", ["pick"])
+>>> [shown(view, [(1, -1), (1, -1)]), shown(view, [(1, 0)])]
+[[[2], []], [[2]]]
+>>> box = Gate(2, ["take"], ["coin"], [("take", 0, "", 1, False, ("coin",)), ("take", 0, "?", 1, False, ("coin",))])
+>>> other = (House(["eve"], ["coin"], [box], [("eve", "take")]), "eve", ["take"])
+>>> [see_same(view, other), parting(view, other), len(pairs(view, other))]
+[True, None, 3]
 """
 
 
@@ -63,7 +78,7 @@ class ExamplesTest(unittest.TestCase):
         test = doctest.DocTestParser().get_doctest(EXAMPLES, {}, "examples", "examples", 0)
         result = doctest.DocTestRunner(verbose=False).run(test, out=told.append)
         self.assertEqual("".join(told), "")
-        self.assertEqual((result.failed, result.attempted), (0, 35))
+        self.assertEqual((result.failed, result.attempted), (0, 46))
 
 
 if __name__ == "__main__":

@@ -30,6 +30,11 @@ INTERFACE = {
     "ends.py": "ever most_held apart",
     "least.py": "actor_lots bringing barring",
     "needed.py": "followed idle pruned needed",
+    "throws.py": "bars latest late_play is_late_play",
+    "latefences.py": "late_fence is_late_fence",
+    "views.py": "is_view shown see_same parting is_parting",
+    "pairs.py": "pairs are_pairs",
+    "folding.py": "state_lots folded folded_house",
 }
 CLASSES = {
     "Gate": "__init__ __eq__ states doors closet rules kind_of rule_for call without_rule with_rule renamed",
