@@ -70,6 +70,12 @@ class Board:
         """Return the place behind a throw of a door."""
         return (called(self._house, place[0], door, "")[0], place[1])
 
+    def holding(self, place, guest, names):
+        """Return the place in which a guest holds further names, too."""
+        at = self._guests.index(guest)
+        masks = place[1]
+        return (place[0], masks[:at] + (masks[at] | self._mask(sorted(set(names))),) + masks[at + 1:])
+
     def _mask(self, names):
         """Return the sum of the bits of different names."""
         return sum([self._bits[name] for name in names])

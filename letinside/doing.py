@@ -3,18 +3,18 @@
 from letinside.calling import called
 from letinside.errors import NoDeed, NoDoor, NoGuest, NotDone, NotHeld
 from letinside.kinds import is_deed
-from letinside.stands import names_held
+from letinside.stands import holding, names_held
 
 
 def done(house, stand, deed):
     """Return the stand behind a deed, any value."""
     _refuse(house, stand, deed)
     if deed[0] == "hand":
-        return (stand[0], _holding(stand[1], deed[2], [deed[3]]))
+        return (stand[0], holding(stand[1], deed[2], [deed[3]]))
     if deed[0] == "throw":
         return (called(house, stand[0], deed[1], "")[0], stand[1])
     gates, names = called(house, stand[0], deed[2], deed[3])
-    return (gates, _holding(stand[1], deed[1], names))
+    return (gates, holding(stand[1], deed[1], names))
 
 
 def told(house, stand, deed):
@@ -93,14 +93,3 @@ def _refuse_guest(house, name):
     """Raise NoGuest if this is no guest."""
     if name not in house.guests():
         raise NoGuest(name)
-
-
-def _holding(held, guest, names):
-    """Return what the guests hold when one of them holds further names, too."""
-    row = []
-    for holder, own in held:
-        if holder == guest:
-            row.append((holder, tuple(sorted(set(list(own) + names)))))
-        else:
-            row.append((holder, own))
-    return tuple(row)

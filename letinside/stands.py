@@ -38,6 +38,17 @@ def within(one, other):
     return all([name in more[guest] for guest, names in one[1] for name in names])
 
 
+def holding(held, guest, names):
+    """Return what the guests hold when one of them holds further names, too."""
+    row = []
+    for holder, own in held:
+        if holder == guest:
+            row.append((holder, tuple(sorted(set(list(own) + names)))))
+        else:
+            row.append((holder, own))
+    return tuple(row)
+
+
 def are_gates(house, thing):
     """Tell whether thing has the form of the gates of a stand."""
     gates = house.gates()

@@ -69,6 +69,24 @@ True
 >>> other = (House(["eve"], ["coin"], [box], [("eve", "take")]), "eve", ["take"])
 >>> [see_same(view, other), parting(view, other), len(pairs(view, other))]
 [True, None, 3]
+>>> from letinside.codes import letter, ran
+>>> from letinside.needing import do_same, need_case, needs, plain
+>>> deputy = ("call", "box", "", ("it",), ("same", "it", "mine", ("call", "out", "it", ("x",), ("end", ("x",)), ("end", ())), ("end", ("it",))), ("end", ()))
+>>> [letter(deputy), needs(deputy), ran(deputy, ({"box": 0, "mine": 7, "out": 3}, [[7], [5]]))]
+[['box', 'mine', 'out'], ['box', 'mine', 'out'], ([(0, None), (3, 7)], [5])]
+>>> ran(deputy, ({"box": 0, "mine": 7, "out": 3}, [[4]]))
+([(0, None)], [4])
+>>> from letinside.visits import alone, asked_can, made, misled
+>>> safe = Gate(1, ["open", "out"], ["cup"], [("open", 0, "cup", 0, False, ()), ("out", 0, "", 0, False, ())])
+>>> hall = House(["ann"], ["cup"], [post, safe], [("ann", "put"), ("ann", "out")])
+>>> visit = (hall, ("ann",), ("call", "get", "", ("it",), ("call", "it", "", ("x",), ("end", ()), ("end", ("it",))), ("end", ())), {"get": "get"}, "ann")
+>>> [alone(visit), misled(visit)]
+[[('get', '')], [('get', ''), ('out', ''), ('put', '')]]
+>>> [made(visit, [("call", "ann", "put", "out"), ("step",), ("step",)]), asked_can(visit, (("ann", "get"),))]
+[[('get', ''), ('out', '')], False]
+>>> from letinside.facets import faceted
+>>> faceted(house, "ann", "buy", "once", "shopper").gates()[0].rules()[-1]
+('shopper', 0, '', 3, False, ('cup',))
 """
 
 
@@ -78,7 +96,7 @@ class ExamplesTest(unittest.TestCase):
         test = doctest.DocTestParser().get_doctest(EXAMPLES, {}, "examples", "examples", 0)
         result = doctest.DocTestRunner(verbose=False).run(test, out=told.append)
         self.assertEqual("".join(told), "")
-        self.assertEqual((result.failed, result.attempted), (0, 46))
+        self.assertEqual((result.failed, result.attempted), (0, 59))
 
 
 if __name__ == "__main__":

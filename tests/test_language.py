@@ -35,6 +35,10 @@ INTERFACE = {
     "views.py": "is_view shown see_same parting is_parting",
     "pairs.py": "pairs are_pairs",
     "folding.py": "state_lots folded folded_house",
+    "codes.py": "is_code letter size depth is_case ran",
+    "needing.py": "do_same parting_case is_parting_case needs need_case is_need_case plain",
+    "visits.py": "made alone misled mislead is_mislead asked_can visit_play is_visit_play",
+    "facets.py": "faceted",
 }
 CLASSES = {
     "Gate": "__init__ __eq__ states doors closet rules kind_of rule_for call without_rule with_rule renamed",
