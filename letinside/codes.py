@@ -8,7 +8,7 @@ def is_code(thing):
     if not _has_form(thing):
         return False
     gets = _gets_in(thing)
-    # A word of gets that stands outside of their some stands in the letter, unless it is one of other gets.
+    # A word of gets that stands outside of their some is one of other gets, or stands in the letter.
     return are_names(gets) and not any([word in gets for word in letter(thing)])
 
 
@@ -96,7 +96,7 @@ def told_at(end, things):
 
 
 def _has_form(thing):
-    """Tell whether thing has the form of a code, wherever the words of its gets stand."""
+    """Tell whether thing has the form of a code, whatever its gets hold and wherever their words stand."""
     if not isinstance(thing, tuple) or len(thing) == 0:
         return False
     if thing[0] == "end":
@@ -106,7 +106,7 @@ def _has_form(thing):
     if thing[0] != "call" or len(thing) != 6 or not is_name(thing[1]) or not is_given(thing[2]):
         return False
     gets = thing[3]
-    return isinstance(gets, tuple) and len(gets) > 0 and are_names(gets) and _have_form(thing[4:])
+    return isinstance(gets, tuple) and len(gets) > 0 and _have_form(thing[4:])
 
 
 def _have_form(things):

@@ -81,7 +81,7 @@ def is_mislead(visit, call, thing):
         calls = made(visit, thing)
     except NotDone:
         return False
-    if len(thing) == 0 or thing[-1] != ("step",) or len(calls) == 0 or calls[-1] != call:
+    if len(calls) == 0 or calls[-1] != call:
         return False
     return len(made(visit, thing[:-1])) < len(calls)
 

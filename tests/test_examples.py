@@ -85,8 +85,20 @@ True
 >>> [made(visit, [("call", "ann", "put", "out"), ("step",), ("step",)]), asked_can(visit, (("ann", "get"),))]
 [[('get', ''), ('out', '')], False]
 >>> from letinside.facets import faceted
+>>> from letinside.narrowed import keeps_out, weakest
+>>> pairs_here = [("ann", "put")]
+>>> [weakest(house, both, (("bob", "cup"),), pairs_here), keeps_out(house, both, (("bob", "cup"),), pairs_here, ("once",))]
+[[('known',)], False]
 >>> faceted(house, "ann", "buy", "once", "shopper").gates()[0].rules()[-1]
 ('shopper', 0, '', 3, False, ('cup',))
+>>> from letinside.notation import show_code, show_deed, show_gate, show_wish
+>>> from letinside.readers import read_code, read_gate
+>>> show_gate(post)
+'gate 1\\ndoors get put\\ncloset\\nrule get 0 - 0 - +kept\\nrule put 0 ? 0 keeps +kept\\n'
+>>> [show_deed(("call", "ann", "buy", "")), show_wish((("ann", "cup"), ("bob", "cup"))), read_gate(show_gate(post)) == post]
+['call ann buy -', 'ann cup, bob cup', True]
+>>> show_code(("call", "box", "", ("it",), ("same", "it", "mine", ("end", ()), ("end", ("it",))), ("end", ())))
+'call(box -: it ? same(it mine ? end() : end(it)) : end())'
 """
 
 
@@ -96,7 +108,7 @@ class ExamplesTest(unittest.TestCase):
         test = doctest.DocTestParser().get_doctest(EXAMPLES, {}, "examples", "examples", 0)
         result = doctest.DocTestRunner(verbose=False).run(test, out=told.append)
         self.assertEqual("".join(told), "")
-        self.assertEqual((result.failed, result.attempted), (0, 59))
+        self.assertEqual((result.failed, result.attempted), (0, 67))
 
 
 if __name__ == "__main__":

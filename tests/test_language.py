@@ -39,17 +39,31 @@ INTERFACE = {
     "needing.py": "do_same parting_case is_parting_case needs need_case is_need_case plain",
     "visits.py": "made alone misled mislead is_mislead asked_can visit_play is_visit_play",
     "facets.py": "faceted",
+    "narrowed.py": "choice_house keeps_out weakest",
+    "notation.py": "show_gate show_house show_deed show_deeds show_wish show_stand show_code",
+    "readers.py": "read_gate read_house read_deed read_deeds read_wish read_stand read_code",
+    "books.py": "Book",
+    "desk.py": "Desk",
 }
 CLASSES = {
     "Gate": "__init__ __eq__ states doors closet rules kind_of rule_for call without_rule with_rule renamed",
     "House": """__init__ __eq__ guests things doors objects gates first gate_of with_first with_gate without_rule
         renamed""",
+    "Book": "__init__ __eq__ __len__ house acting do bans log back again copied trial margin",
+    "Desk": "__init__ execute book",
 }
 
 
 def every(kind):
     """All parts of this kind, with the names of their files."""
     return [(name, node) for name, tree in TREES.items() for node in ast.walk(tree) if isinstance(node, kind)]
+
+
+def is_plain(thing):
+    """Whether a value may stand at module level: a number, a string, or a tuple, list or dict of such and of tuples."""
+    if isinstance(thing, dict):
+        thing = list(thing) + list(thing.values())
+    return isinstance(thing, (int, str)) or all(is_plain(part) and not isinstance(part, (list, dict)) for part in thing)
 
 
 class LanguageTest(unittest.TestCase):
@@ -103,6 +117,7 @@ class LanguageTest(unittest.TestCase):
             bound = {node.id for node in ast.walk(tree) if isinstance(node, ast.Name) and not
                      isinstance(node.ctx, ast.Load)}
             bound |= {node.arg for node in ast.walk(tree) if isinstance(node, ast.arg)}
+            bound |= {node.name for node in ast.walk(tree) if isinstance(node, ast.ExceptHandler) and node.name}
             bound |= {node.name for node in ast.walk(tree) if isinstance(node, (ast.FunctionDef, ast.ClassDef))}
             imported = {alias.name for node in ast.walk(tree) if isinstance(node, ast.ImportFrom)
                         for alias in node.names}
@@ -134,8 +149,12 @@ class LanguageTest(unittest.TestCase):
 
     def test_module_level(self):
         for name, tree in TREES.items():
+            bound = [node.targets[0].id for node in tree.body if isinstance(node, ast.Assign)]
+            self.assertEqual(len(bound), len(set(bound)), name)
             for node in tree.body:
-                self.assertIsInstance(node, (ast.Expr, ast.ImportFrom, ast.FunctionDef, ast.ClassDef), name)
+                self.assertIsInstance(node, (ast.Expr, ast.ImportFrom, ast.FunctionDef, ast.ClassDef, ast.Assign), name)
+                if isinstance(node, ast.Assign):
+                    self.assertTrue(is_plain(ast.literal_eval(node.value)), name)
             for node in ast.walk(tree):
                 if isinstance(node, (ast.FunctionDef, ast.ClassDef)):
                     self.assertTrue(ast.get_docstring(node) or node.name.startswith("__"), (name, node.name))
